@@ -1,0 +1,1 @@
+"""Who supplies whom: one supplier for each point of delivery on each day."""
