@@ -1,6 +1,7 @@
-"""The calls open, holiday and point."""
+"""The calls open, holiday, point and state."""
 
 from supplierdays.house import MOST_HOLIDAYS, MOST_POINTS
+from supplierdays.record import waiting_requests
 
 
 def set_up(house, basic, suppliers, objection_time, notice):
@@ -30,3 +31,11 @@ def add_point(house):
         return [-4]
     house.points += 1
     return [0, house.points]
+
+
+def ask_state(house):
+    answer = [0, house.today, house.points, len(house.requests), len(waiting_requests(house))]
+    answer.extend([len(house.facts), len(house.volumes), len(house.holidays)])
+    for supplier in range(1, house.suppliers + 1):
+        answer.append(1 if supplier in house.failed else 0)
+    return answer

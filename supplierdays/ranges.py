@@ -14,12 +14,32 @@ ARGUMENTS = (
     ("supplier",),
     ("point", "day", "amount"),
     ("supplier", "day", "day"),
+    ("point", "day", "day"),
+    ("point", "day"),
+    ("supplier", "day", "day", "day"),
+    ("day", "day", "day"),
+    ("day", "business days behind"),
+    ("day", "day"),
+    ("request",),
+    ("point", "day", "day"),
+    ("supplier", "day", "day"),
+    ("point",),
+    (),
 )
 
-LEAST = {"supplier": 1, "business days": 1, "day": 0, "point": 1, "request": 1, "amount": 0}
+LEAST = {
+    "supplier": 1,
+    "business days": 1,
+    "business days behind": 0,
+    "day": 0,
+    "point": 1,
+    "request": 1,
+    "amount": 0,
+}
 GREATEST = {
     "supplier": 8,
     "business days": 30,
+    "business days behind": 100,
     "day": 20000,
     "point": 16,
     "request": 64,

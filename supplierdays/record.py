@@ -73,6 +73,25 @@ def stretch_end(house, point, day, known_at):
     return LAST_DAY
 
 
+# The longest stretches of days on which another supplier is known at one day than at the other: rows of (first, last).
+def stretches_of_difference(house, point, known_at, other_known_at):
+    facts = facts_known(house, point, known_at)
+    others = facts_known(house, point, other_known_at)
+    stretches = []
+    # The first day of the stretch that goes on; -1, which is no day, while there is none.
+    first = -1
+    for day in days_of_change(facts + others):
+        is_other = supplier_by(facts, house.basic, day) != supplier_by(others, house.basic, day)
+        if is_other and first < 0:
+            first = day
+        if not is_other and first >= 0:
+            stretches.append((first, day - 1))
+            first = -1
+    if first >= 0:
+        stretches.append((first, LAST_DAY))
+    return stretches
+
+
 # The amounts told last for each (point, day).
 def amounts_known(house, known_at):
     amounts = {}
@@ -82,11 +101,16 @@ def amounts_known(house, known_at):
     return amounts
 
 
-def supplier_volume(house, supplier, first, last, known_at):
+# Each supplier's volume, in order.
+def supplier_volumes(house, first, last, known_at):
     amounts = amounts_known(house, known_at)
-    total = 0
+    totals = [0] * house.suppliers
     for key in amounts:
         day = key[1]
-        if first <= day and day <= last and supplier_on(house, key[0], day, known_at) == supplier:
-            total += amounts[key]
-    return total
+        if first <= day and day <= last:
+            totals[supplier_on(house, key[0], day, known_at) - 1] += amounts[key]
+    return totals
+
+
+def supplier_volume(house, supplier, first, last, known_at):
+    return supplier_volumes(house, first, last, known_at)[supplier - 1]

@@ -1,4 +1,4 @@
-"""The calls request, object, withdraw, and day, which confirms requests."""
+"""The calls request, object, withdraw, requestIs, and day, which confirms requests."""
 
 from supplierdays.days import business_after
 from supplierdays.house import CONFIRMED, MOST_REQUESTS, OBJECTED_TO, WAITING, WITHDRAWN, Fact, Request
@@ -88,3 +88,10 @@ def go_to_day(house, day):
         confirm(house, house.requests[row[1] - 1])
     house.today = day
     return [0, len(due)]
+
+
+def ask_request(house, number):
+    if number > len(house.requests):
+        return [-7]
+    request = house.requests[number - 1]
+    return [0, request.point, request.supplier, request.start, request.old, request.deadline, request.standing]

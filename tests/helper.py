@@ -6,7 +6,7 @@ from supplierdays.desk import answers
 
 FAR = 10 ** 18
 
-ARGUMENT_COUNTS = (4, 1, 0, 1, 3, 2, 1, 2, 4, 1, 3, 3)
+ARGUMENT_COUNTS = (4, 1, 0, 1, 3, 2, 1, 2, 4, 1, 3, 3, 3, 2, 4, 3, 2, 2, 1, 3, 3, 1, 0)
 
 
 def open_house(basic=1, suppliers=4, objection_time=2, notice=5):
@@ -57,6 +57,50 @@ def bill(supplier, first, last):
     return [11, supplier, first, last]
 
 
+def who(at, on, k):
+    return [12, at, on, k]
+
+
+def history(at, k):
+    return [13, at, k]
+
+
+def volume_of(supplier, first, last, k):
+    return [14, supplier, first, last, k]
+
+
+def volumes(first, last, k):
+    return [15, first, last, k]
+
+
+def business_after(behind, n):
+    return [16, behind, n]
+
+
+def business_between(a, b):
+    return [17, a, b]
+
+
+def request_is(number):
+    return [18, number]
+
+
+def differs(at, j, k):
+    return [19, at, j, k]
+
+
+def supplied(supplier, on, k):
+    return [20, supplier, on, k]
+
+
+def facts(at):
+    return [21, at]
+
+
+def state():
+    return [22]
+
+
 def one_list(calls):
     return [number for call in calls for number in call]
 
@@ -82,7 +126,9 @@ def open_with(points, **how):
 
 def probe(today):
     """Calls whose answers show what a house keeps, whatever it is."""
-    calls = [open_house(2, 5, 3, 7), point()]
+    calls = [state(), business_between(0, 20000)] + [request_is(number) for number in range(1, 5)]
+    calls += [facts(at) for at in range(1, 4)] + [volumes(0, 20000, k) for k in (0, today)]
+    calls += [open_house(2, 5, 3, 7), point()]
     calls += [bill(supplier, 0, 20000) for supplier in range(1, 9)]
     calls += [bill(supplier, 0, 10) for supplier in range(1, 5)]
     calls += [request(at, supplier, today + 100) for at in range(1, 6) for supplier in (1, 2, 3)]
@@ -115,6 +161,14 @@ class Case(unittest.TestCase):
         got = run(before + [call] + later)
         self.assertEqual(got[len(before)], [number], call)
         self.assertEqual(got[len(before) + 1:], run(before + later)[len(before):], call)
+
+    def asked(self, before, call, expected, today=0, tail=None):
+        """The call, asked twice, answers what is expected, and what later calls answer stays the same."""
+        later = probe(today) if tail is None else tail
+        self.assertLessEqual(len(before) + 2 + len(later), 300)
+        got = run(before + [call, call] + later)
+        self.assertEqual(got[len(before):len(before) + 2], [expected, expected], call)
+        self.assertEqual(got[len(before) + 2:], run(before + later)[len(before):], call)
 
     def out_of_range(self, before, call, low_and_high, tail=None):
         """Each argument of an accepted call, just and far outside its range, is refused with -1."""

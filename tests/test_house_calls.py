@@ -1,10 +1,11 @@
-"""The calls open, holiday and point."""
+"""The calls open, holiday, point and state."""
 
 import unittest
 
 from tests.helper import DAY, FAR, SUPPLIER, Case
-from tests.helper import bill, correct, day, fail, holiday, object_to, open_house, open_with, point, request, run
-from tests.helper import vacate, volume, withdraw
+from tests.helper import bill, business_after, business_between, correct, day, differs, facts, fail, history, holiday
+from tests.helper import object_to, open_house, open_with, point, request, request_is, run, state, supplied
+from tests.helper import vacate, volume, volume_of, volumes, who, withdraw
 
 WAIT = (1, 30)
 
@@ -74,13 +75,18 @@ class OpenTest(Case):
 class NotOpenTest(Case):
     def test_every_other_call(self):
         calls = (holiday(1), point(), day(1), request(1, 1, 7), object_to(1, 1), withdraw(1), vacate(1, 1),
-                 correct(1, 0, 0, 1), fail(1), volume(1, 0, 1), bill(1, 0, 0))
+                 correct(1, 0, 0, 1), fail(1), volume(1, 0, 1), bill(1, 0, 0), who(1, 0, 0), history(1, 0),
+                 volume_of(1, 0, 0, 0), volumes(0, 0, 0), business_after(0, 0), business_between(0, 0), request_is(1),
+                 differs(1, 0, 0), supplied(1, 0, 0), facts(1), state())
+        self.assertEqual([call[0] for call in calls], list(range(1, 23)))
         for call in calls:
             self.refused([], call, -2)
 
     def test_comes_before_what_is_told_of_the_call(self):
         calls = (holiday(0), day(0), request(16, 8, 0), object_to(64, 8), withdraw(64), vacate(16, 0),
-                 correct(16, 9, 8, 8), fail(8), volume(16, 20000, 0), bill(8, 1, 0))
+                 correct(16, 9, 8, 8), fail(8), volume(16, 20000, 0), bill(8, 1, 0), who(16, 0, 20000),
+                 history(16, 20000), volume_of(8, 1, 0, 20000), volumes(1, 0, 20000), business_between(1, 0),
+                 request_is(64), differs(16, 20000, 20000), supplied(8, 0, 20000), facts(16))
         for call in calls:
             self.refused([], call, -2)
 
@@ -178,6 +184,68 @@ class PointTest(Case):
         self.refused(open_with(16), point(), -4)
         self.answered(open_with(16), volume(16, 0, 1), [0])
         self.answered(open_with(15), volume(16, 0, 1), [-5])
+
+
+class StateTest(Case):
+    def before(self):
+        return open_with(5, basic=3, suppliers=6) + [
+            request(1, 2, 7), request(2, 4, 8), request(3, 5, 9), request(4, 5, 9), object_to(1, 3), holiday(7),
+            holiday(100), holiday(12), correct(5, 0, 20, 1), correct(5, 1, 2, 2), volume(1, 0, 5), day(2),
+            volume(1, 0, 6), volume(2, 1, 7), volume(2, 2, 8), volume(2, 0, 8)]
+
+    def test_a_new_house(self):
+        self.asked([open_house()], state(), [0, 0, 0, 0, 0, 0, 0, 0, 0, 0, 0, 0])
+        self.answered([open_house(1, 1)], state(), [0, 0, 0, 0, 0, 0, 0, 0, 0])
+        self.answered([open_house(1, 8)], state(), [0] * 16)
+
+    def test_ordinary(self):
+        self.asked(self.before(), state(), [0, 2, 5, 4, 3, 2, 5, 3, 0, 0, 0, 0, 0, 0], 2)
+
+    def test_failed_suppliers(self):
+        before = self.before() + [fail(5), fail(1), fail(6)]
+        self.asked(before, state(), [0, 2, 5, 4, 1, 3, 5, 3, 1, 0, 0, 0, 1, 1], 2)
+
+    def test_today(self):
+        for today in (1, 77, 20000):
+            self.answered(open_with(1) + [day(today)], state(), [0, today, 1] + [0] * 9)
+        self.answered(open_with(1) + [day(9), day(9), day(3)], state(), [0, 9, 1] + [0] * 9)
+
+    def test_waiting_requests_and_facts_when_requests_are_confirmed(self):
+        before = open_with(3) + [request(1, 2, 7), request(2, 2, 7), day(1), request(3, 2, 8)]
+        for calls, requests, waiting, put in (([], 3, 3, 0), ([day(3)], 3, 1, 2), ([day(4)], 3, 0, 3),
+                                              ([withdraw(3)], 3, 2, 0), ([object_to(1, 1), day(9)], 3, 0, 2),
+                                              ([fail(2)], 3, 0, 0)):
+            got = run(before + calls + [state()])[-1]
+            self.assertEqual(got[2:6], [3, requests, waiting, put], calls)
+
+    def test_facts_by_all_that_puts_them_on_record(self):
+        before = open_with(2) + [correct(1, 5, 20, 2), correct(2, 5, 20, 2), correct(1, 9, 9, 3)]
+        self.assertEqual(run(before + [state()])[-1][5], 3)
+        self.assertEqual(run(before + [vacate(1, 7), state()])[-1][5], 4)
+        self.assertEqual(run(before + [fail(2), state()])[-1][5], 6)
+
+    def test_holidays(self):
+        before = open_with(0) + [holiday(3), holiday(5), holiday(3), holiday(0)]
+        self.answered(before, state(), [0, 0, 0, 0, 0, 0, 0, 2, 0, 0, 0, 0])
+        self.answered(before + [day(50)], state(), [0, 50, 0, 0, 0, 0, 0, 2, 0, 0, 0, 0])
+
+    def test_volumes_told_for_one_day_count_each(self):
+        before = open_with(1) + [volume(1, 0, 5), volume(1, 0, 5), volume(1, 1, 5)]
+        self.answered(before, state(), [0, 0, 1, 0, 0, 0, 2, 0, 0, 0, 0, 0])
+
+    def test_bills_do_not_show(self):
+        self.answered(open_with(1) + [bill(1, 0, 10)], state(), [0, 0, 1] + [0] * 9)
+
+    def test_each_as_many_as_there_may_be(self):
+        asked = [call for number in range(1, 65) for call in (request(1, 2, 60), withdraw(number))]
+        before = open_with(16) + [holiday(on) for on in range(10, 42)] + asked
+        self.answered(before, state(), [0, 0, 16, 64, 0, 0, 0, 32, 0, 0, 0, 0])
+        self.answered(open_with(1) + [volume(1, 0, 1)] * 256, state(), [0, 0, 1, 0, 0, 0, 256, 0, 0, 0, 0, 0])
+        self.answered(open_with(1) + [correct(1, 0, 0, 1)] * 256, state(), [0, 0, 1, 0, 0, 256, 0, 0, 0, 0, 0, 0])
+
+    def test_not_open(self):
+        self.refused([], state(), -2)
+        self.refused([open_house(5, 4)], state(), -2)
 
 
 if __name__ == "__main__":

@@ -93,6 +93,7 @@ class LanguageTest(unittest.TestCase):
                     self.assertIsInstance(node, EXPRESSIONS, where)
                 if isinstance(node, ast.Assign):
                     self.assertEqual(len(node.targets), 1, where)
+                    self.assertNotIsInstance(node.targets[0], (ast.Tuple, ast.List), where)
                 if isinstance(node, (ast.For, ast.While)):
                     self.assertEqual(node.orelse, [], where)
                 if isinstance(node, ast.Constant):

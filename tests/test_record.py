@@ -2,9 +2,9 @@
 
 import unittest
 
-from supplierdays.days import business_after, is_free
+from supplierdays.days import business_after, business_between, is_free
 from supplierdays.house import Fact, House, Volume
-from supplierdays.record import span_starts, stretch_end, supplier_on, supplier_volume
+from supplierdays.record import span_starts, stretch_end, stretches_of_difference, supplier_on, supplier_volume
 
 
 class DaysTest(unittest.TestCase):
@@ -24,6 +24,12 @@ class DaysTest(unittest.TestCase):
 
     def test_beyond_the_last_day(self):
         self.assertEqual([business_after({}, 20000, n) for n in range(6)], [20000, 20001, 20002, 20003, 20006, 20007])
+
+    def test_business_days_between(self):
+        holidays = {1: True, 4: True, 6: True, 7: True, 20000: True}
+        for a, b in ((0, 0), (0, 4), (4, 7), (5, 8), (0, 400), (19000, 20000), (0, 20000)):
+            expected = len([day for day in range(a + 1, b + 1) if not is_free(holidays, day)])
+            self.assertEqual(business_between(holidays, a, b), expected, (a, b))
 
 
 class RecordTest(unittest.TestCase):
@@ -63,6 +69,14 @@ class RecordTest(unittest.TestCase):
                                    (9, [14, 14, 14, 17, 20000])):
             days = (0, 10, 14, 15, 21)
             self.assertEqual([stretch_end(house, 1, day, known_at) for day in days], expected, known_at)
+
+    def test_stretches_of_difference(self):
+        house = self.house()
+        for known_at, other, expected in ((4, 5, [(10, 20)]), (5, 6, [(15, 20)]), (6, 9, [(0, 9)]), (4, 4, []),
+                                          (5, 9, [(0, 9), (15, 20)]), (4, 9, [(0, 17)])):
+            self.assertEqual(stretches_of_difference(house, 1, known_at, other), expected, (known_at, other))
+            self.assertEqual(stretches_of_difference(house, 1, other, known_at), expected, (known_at, other))
+        self.assertEqual(stretches_of_difference(house, 2, 4, 5), [(0, 20000)])
 
     def test_volume_as_known_at_a_day(self):
         house = self.house()

@@ -1,9 +1,9 @@
-"""The calls request, object and withdraw."""
+"""The calls request, object, withdraw and requestIs."""
 
 import unittest
 
 from tests.helper import DAY, POINT, REQUEST, SUPPLIER, Case
-from tests.helper import bill, correct, day, fail, holiday, object_to, open_with, point, request, run
+from tests.helper import bill, correct, day, fail, holiday, object_to, open_with, point, request, request_is, run
 from tests.helper import vacate, volume, withdraw
 
 
@@ -256,6 +256,66 @@ class WithdrawTest(Case):
         self.answered(before + [object_to(1, 1)], correct(1, 0, 0, 3), [0])
         self.answered(before + [day(3)], correct(1, 0, 0, 3), [-4])
         self.answered(before + [day(3)], vacate(2, 9), [-4])
+
+
+class RequestIsTest(Case):
+    def before(self):
+        """Five requests, each of which stands in another way."""
+        return open_with(5) + [
+            correct(2, 20, 30, 3), request(1, 2, 7), day(3), request(2, 4, 25), request(3, 3, 11), request(4, 4, 12),
+            request(5, 2, 403), object_to(3, 1), withdraw(4), fail(2)]
+
+    def test_ordinary(self):
+        self.asked(open_with(2) + [request(2, 3, 9)], request_is(1), [0, 2, 3, 9, 1, 2, 0])
+
+    def test_how_it_stands(self):
+        self.assertEqual([answer[0] for answer in run(self.before())], [0] * len(self.before()))
+        self.asked(self.before(), request_is(1), [0, 1, 2, 7, 1, 2, 1], 3)
+        self.asked(self.before(), request_is(2), [0, 2, 4, 25, 3, 7, 0], 3)
+        self.asked(self.before(), request_is(3), [0, 3, 3, 11, 1, 7, 2], 3)
+        self.asked(self.before(), request_is(4), [0, 4, 4, 12, 1, 7, 3], 3)
+        self.asked(self.before(), request_is(5), [0, 5, 2, 403, 1, 7, 4], 3)
+
+    def test_waiting_to_the_deadline_and_confirmed_the_day_after(self):
+        before = open_with(1) + [request(1, 2, 7)]
+        self.answered(before + [day(2)], request_is(1), [0, 1, 2, 7, 1, 2, 0])
+        self.answered(before + [day(3)], request_is(1), [0, 1, 2, 7, 1, 2, 1])
+        self.answered(before + [day(20000)], request_is(1), [0, 1, 2, 7, 1, 2, 1])
+
+    def test_what_ended_stays_as_it_is(self):
+        for ended, standing in ((object_to(1, 1), 2), (withdraw(1), 3), (fail(2), 4), (day(3), 1)):
+            for later in (day(30), fail(2), withdraw(1), object_to(1, 1)):
+                before = open_with(1) + [request(1, 2, 7), ended, later]
+                self.answered(before, request_is(1), [0, 1, 2, 7, 1, 2, standing])
+
+    def test_holidays_and_facts_told_later_change_nothing(self):
+        before = open_with(1) + [request(1, 2, 7), holiday(1), holiday(7), correct(1, 0, 20, 3), fail(3)]
+        self.answered(before, request_is(1), [0, 1, 2, 7, 1, 2, 0])
+
+    def test_only_those_of_the_failed_supplier_as_the_new_one_are_dropped(self):
+        before = open_with(2) + [correct(1, 0, 400, 3), request(1, 2, 7), request(2, 3, 7), fail(3)]
+        self.answered(before, request_is(1), [0, 1, 2, 7, 3, 2, 0])
+        self.answered(before, request_is(2), [0, 2, 3, 7, 1, 2, 4])
+
+    def test_a_refused_request_has_no_number(self):
+        before = open_with(2) + [request(1, 2, 7), request(1, 3, 7), request(2, 3, 7)]
+        self.answered(before, request_is(2), [0, 2, 3, 7, 1, 2, 0])
+        self.answered(before, request_is(3), [-7])
+
+    def test_a_deadline_far_behind(self):
+        before = open_with(1, objection_time=29, notice=30) + [request(1, 2, 42)]
+        self.answered(before, request_is(1), [0, 1, 2, 42, 1, 39, 0])
+
+    def test_ranges(self):
+        self.ranges(self.before(), request_is(2), (REQUEST,))
+        self.answered(open_with(1) + asked_and_withdrawn(64), request_is(64), [0, 1, 2, 7, 1, 2, 3])
+        self.answered(open_with(1) + asked_and_withdrawn(64), request_is(1), [0, 1, 2, 7, 1, 2, 3])
+
+    def test_no_such_request(self):
+        self.refused(self.before(), request_is(6), -7, 3)
+        self.refused(self.before(), request_is(64), -7, 3)
+        self.refused(open_with(1), request_is(1), -7)
+        self.refused(open_with(1) + asked_and_withdrawn(63), request_is(64), -7)
 
 
 class WaitingWhileOtherThingsHappenTest(Case):
